@@ -1,0 +1,1 @@
+"""Crosswebs: drawn strings read off two webs."""

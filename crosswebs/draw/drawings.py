@@ -1,0 +1,237 @@
+"""Drawings: crossings told by the strands at their ends, with free rings beside them."""
+
+from crosswebs.base.words import are_counts, is_count, is_line_number
+from crosswebs.errors import InvalidDrawing, InvalidEnd, ParseError
+
+MAX_CROSSINGS = 9
+MAX_RINGS = 9
+
+
+class Drawing:
+    """Strings drawn on a ball; it never changes."""
+
+    def __init__(self, crossings=(), *, rings=0):
+        if not (_are_crossings(crossings) and is_count(rings) and rings <= MAX_RINGS):
+            raise InvalidDrawing("the crossings or the number of free rings are not of their kind")
+        if len(crossings) + rings == 0:
+            raise InvalidDrawing("there is no string")
+        self._crossings = crossings
+        self._rings = rings
+        self._strands = _strands_of(crossings)
+        self._partners = _partners_of(self._strands)
+        self._pieces = _pieces_of(len(crossings), self._strands)
+        self._rims = _rims_of(self._partners)
+        if not _are_flat(self._pieces, self._rims):
+            raise InvalidDrawing("the crossings cannot be drawn on a ball")
+        self._strings = _strings_of(self._partners)
+
+    @classmethod
+    def from_lines(cls, *lines):
+        """The drawing with a crossing for each line like `cross 0 1 2 3`, and a free ring for each `ring`."""
+        for index, line in enumerate(lines):
+            if not _is_line(line):
+                raise ParseError(index)
+        crosses = [line.split(" ")[1:] for line in lines if line != "ring"]
+        crossings = tuple([tuple([int(number) for number in numbers]) for numbers in crosses])
+        return cls(crossings, rings=len(lines) - len(crossings))
+
+    @property
+    def crossings(self):
+        """The quadruples of the strands at the ends of the crossings."""
+        return self._crossings
+
+    @property
+    def rings(self):
+        """The number of free rings."""
+        return self._rings
+
+    @property
+    def lines(self):
+        """The lines of the crossings, and then one for each free ring."""
+        crosses = [f"cross {a} {b} {c} {d}" for a, b, c, d in self._crossings]
+        return tuple(crosses + ["ring"] * self._rings)
+
+    @property
+    def strands(self):
+        """By strands, the ascending pairs of their ends."""
+        return self._strands
+
+    @property
+    def pieces(self):
+        """The ascending tuple of the ascending tuples of the crossings of a piece."""
+        return self._pieces
+
+    @property
+    def rims(self):
+        """The ascending tuple of the rims, each a tuple of corners."""
+        return self._rims
+
+    @property
+    def strings(self):
+        """The strings that pass crossings, each the tuple of the ends at which one comes in."""
+        return self._strings
+
+    @property
+    def many_strings(self):
+        """The number of all strings, the free rings among them."""
+        return len(self._strings) + self._rings
+
+    @property
+    def is_one_piece(self):
+        """Whether the drawing is one piece, without free rings."""
+        return len(self._pieces) == 1 and self._rings == 0
+
+    @property
+    def numbered(self):
+        """The same drawing with strands numbered as they come first."""
+        numbers = {}
+        for crossing in self._crossings:
+            for strand in crossing:
+                if strand not in numbers:
+                    numbers[strand] = len(numbers)
+        crossings = [(numbers[a], numbers[b], numbers[c], numbers[d]) for a, b, c, d in self._crossings]
+        return Drawing(tuple(crossings), rings=self._rings)
+
+    @property
+    def mirror(self):
+        """The drawing in which at each crossing the upper string is the lower one."""
+        return Drawing(tuple([(b, c, d, a) for a, b, c, d in self._crossings]), rings=self._rings)
+
+    @property
+    def behind(self):
+        """The drawing as it is seen from inside of the ball."""
+        return Drawing(tuple([(b, a, d, c) for a, b, c, d in self._crossings]), rings=self._rings)
+
+    def partner(self, end):
+        """The end that is joined with an end."""
+        _check_end(self, end)
+        return self._partners[end]
+
+    def opposite(self, end):
+        """The end of the same crossing and the same string."""
+        _check_end(self, end)
+        return _opposite(end)
+
+    def rim_at(self, corner):
+        """The rim with a corner."""
+        _check_end(self, corner)
+        return self._rims[[corner in rim for rim in self._rims].index(True)]
+
+    def string_at(self, end):
+        """The index of the string that passes an end."""
+        _check_end(self, end)
+        other = _opposite(end)
+        return [end in string or other in string for string in self._strings].index(True)
+
+    def __len__(self):
+        return len(self._crossings)
+
+    def __iter__(self):
+        return iter(self._crossings)
+
+    def __contains__(self, value):
+        # Without this, Python would compare with the quadruples, and take True for 1.
+        return are_counts(value) and value in self._crossings
+
+    def __eq__(self, other):
+        return isinstance(other, Drawing) and self._crossings == other._crossings and self._rings == other._rings
+
+    def __str__(self):
+        return f"drawing of {len(self._crossings)} crossings, {self.many_strings} strings, {self._rings} rings"
+
+
+def is_end(drawing, value):
+    """Whether the value is an end of the drawing; corners are told by the same pairs."""
+    return are_counts(value) and len(value) == 2 and value[0] < len(drawing) and value[1] < 4
+
+
+def _check_end(drawing, value):
+    """Refuse what is no end and no corner of the drawing."""
+    if not is_end(drawing, value):
+        raise InvalidEnd("no end or corner of the drawing")
+
+
+def _opposite(end):
+    """The end opposite to an end."""
+    at, number = end
+    return (at, (number + 2) % 4)
+
+
+def _is_line(value):
+    """Whether the value is the line of a crossing or of a free ring."""
+    if not isinstance(value, str):
+        return False
+    words = value.split(" ")
+    is_cross = words[0] == "cross" and len(words) == 5 and all([is_line_number(word) for word in words[1:]])
+    return is_cross or value == "ring"
+
+
+def _are_crossings(value):
+    """Whether the value is a tuple of few enough quadruples in which each strand stands just twice."""
+    if not (isinstance(value, tuple) and len(value) <= MAX_CROSSINGS):
+        return False
+    if not all([are_counts(crossing) and len(crossing) == 4 for crossing in value]):
+        return False
+    told = sorted([strand for crossing in value for strand in crossing])
+    return told == [place // 2 for place in range(len(told))]
+
+
+def _strands_of(crossings):
+    """By strands, the ascending pairs of their ends."""
+    strands = [[] for _ in range(2 * len(crossings))]
+    for at, crossing in enumerate(crossings):
+        for number, strand in enumerate(crossing):
+            strands[strand].append((at, number))
+    return tuple([tuple(ends) for ends in strands])
+
+
+def _partners_of(strands):
+    """By ends, the ends that are joined with them."""
+    partners = {}
+    for one, other in strands:
+        partners[one] = other
+        partners[other] = one
+    return partners
+
+
+def _pieces_of(many, strands):
+    """The ascending tuple of the pieces into which so many crossings fall."""
+    # Each crossing is labelled with the least one that is known to hang together with it.
+    labels = list(range(many))
+    for (one, _), (other, _) in strands:
+        low, high = sorted([labels[one], labels[other]])
+        labels = [low if label == high else label for label in labels]
+    return tuple([tuple([at for at in range(many) if labels[at] == least]) for least in sorted(set(labels))])
+
+
+def _rims_of(partners):
+    """The ascending tuple of the rims, each from its least corner on."""
+    steps = {(at, number): partners[at, (number + 1) % 4] for at, number in partners}
+    rims = []
+    for corner in sorted(steps):
+        if not any([corner in rim for rim in rims]):
+            rims.append(_walk(steps, corner))
+    return tuple(rims)
+
+
+def _strings_of(partners):
+    """The strings by their first ends, ascending, each told by the ends at which one comes in."""
+    steps = {end: partners[_opposite(end)] for end in partners}
+    strings = []
+    for end in sorted(steps):
+        if not any([end in string or _opposite(end) in string for string in strings]):
+            strings.append(_walk(steps, end))
+    return tuple(strings)
+
+
+def _walk(steps, first):
+    """What comes by the steps, one after the other, until the first one would come again."""
+    walk = [first]
+    while steps[walk[-1]] != first:
+        walk.append(steps[walk[-1]])
+    return tuple(walk)
+
+
+def _are_flat(pieces, rims):
+    """Whether each piece has just as many rims as it has on a ball."""
+    return all([len([rim for rim in rims if rim[0][0] in piece]) == len(piece) + 2 for piece in pieces])
