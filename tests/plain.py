@@ -57,3 +57,25 @@ def tables(many):
     else:
         told = set(permutations((0, 0, 1, 1, 2, 2, 3, 3)))
     return [tuple(row[4 * i:4 * i + 4] for i in range(many)) for row in sorted(told)]
+
+
+def renamed(crossings):
+    """The crossings with strands numbered as they come first."""
+    order = []
+    for crossing in crossings:
+        order += [strand for strand in crossing if strand not in order]
+        order = sorted(set(order), key=order.index)
+    return tuple(tuple(order.index(strand) for strand in crossing) for crossing in crossings)
+
+
+def all_matchings(one, other):
+    """All matchings of two tables of crossings, out of all ways to send crossings to crossings."""
+    ends, many = all_ends(one), len(one)
+    pairs = {frozenset(pair) for pair in joined_ends(one)}
+    others = {frozenset(pair) for pair in joined_ends(other)}
+    for order in permutations(range(many)):
+        for number in range(2 ** many):
+            told = tuple((order[i], 2 * ((number >> i) & 1)) for i in range(many))
+            goes = {(i, p): (told[i][0], (p + told[i][1]) % 4) for i, p in ends}
+            if {frozenset(goes[end] for end in pair) for pair in pairs} == others:
+                yield told

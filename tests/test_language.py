@@ -122,6 +122,109 @@ class Files(unittest.TestCase):
                 del left[module]
 
 
+def functions(tree):
+    return [node for node in ast.walk(tree) if isinstance(node, ast.FunctionDef)]
+
+
+def classes(tree):
+    return [node for node in ast.walk(tree) if isinstance(node, ast.ClassDef)]
+
+
+def is_generator(function):
+    return any(isinstance(node, (ast.Yield, ast.YieldFrom)) for node in ast.walk(function))
+
+
+def called(node):
+    """The bare name that a call calls."""
+    return node.func.id if isinstance(node, ast.Call) and isinstance(node.func, ast.Name) else None
+
+
+class Uses(unittest.TestCase):
+    """Rules about what stands where: L5, L7, L15, L18, L22, L23, L24."""
+
+    iterated = "list tuple sorted sum min max any all enumerate zip iter dict".split()
+
+    def test_locals_have_no_name_of_an_import_or_a_class(self):
+        for module, tree in trees().items():
+            taken = {alias.name for node in ast.walk(tree) if isinstance(node, ast.ImportFrom) for alias in node.names}
+            taken |= {node.name for node in classes(tree)}
+            for function in functions(tree):
+                names = {node.id for node in ast.walk(function)
+                         if isinstance(node, ast.Name) and isinstance(node.ctx, ast.Store)}
+                names |= {node.arg for node in ast.walk(function) if isinstance(node, ast.arg)}
+                self.assertEqual(names & taken, set(), (module, function.name))
+
+    def test_properties_and_class_methods_have_names_of_their_own(self):
+        kinds = {}
+        for tree in trees().values():
+            for node in classes(tree):
+                for method in [part for part in node.body if isinstance(part, ast.FunctionDef)]:
+                    marks = [ast.unparse(mark) for mark in method.decorator_list]
+                    kinds.setdefault(method.name, set()).add(marks[0] if marks else "method")
+            for node in ast.walk(tree):
+                if isinstance(node, ast.Attribute) and isinstance(node.ctx, ast.Store):
+                    kinds.setdefault(node.attr, set()).add("attribute")
+        for name, told in kinds.items():
+            self.assertEqual(len(told), 1, name)
+            if told != {"method"}:
+                self.assertNotIn(name, METHODS)
+
+    def test_nothing_is_caught_added_in_place_or_passed_on_as_a_lambda(self):
+        for module, tree in trees().items():
+            for node in ast.walk(tree):
+                self.assertNotIsInstance(node, (ast.Try, ast.AugAssign, ast.Lambda, ast.With, ast.Match, ast.NamedExpr), module)
+
+    def test_views_and_generators_are_iterated_at_once(self):
+        all_trees = trees()
+        makers = {function.name for tree in all_trees.values() for function in functions(tree) if is_generator(function)}
+        for module, tree in all_trees.items():
+            parents = parents_in(tree)
+            for node in ast.walk(tree):
+                views = isinstance(node, ast.Call) and isinstance(node.func, ast.Attribute) and node.func.attr in (
+                    "items", "keys", "values")
+                if not views and called(node) not in makers | {"range", "zip", "enumerate", "reversed", "map"}:
+                    continue
+                parent = parents[node]
+                at_once = isinstance(parent, (ast.For, ast.comprehension)) and parent.iter is node
+                at_once = at_once or isinstance(parent, ast.YieldFrom) or called(parent) in self.iterated
+                self.assertTrue(at_once, (module, node.lineno))
+            for node in ast.walk(tree):
+                if isinstance(node, ast.Name) and node.id in makers and isinstance(node.ctx, ast.Load):
+                    self.assertEqual(called(parents[node]), node.id, (module, node.lineno))
+
+    def test_sets_are_measured_sorted_or_compared_at_once(self):
+        for module, tree in trees().items():
+            parents = parents_in(tree)
+            for node in ast.walk(tree):
+                self.assertNotIsInstance(node, ast.Set, module)
+                if called(node) == "set" or isinstance(node, ast.SetComp):
+                    self.assertIn(called(parents[node]), ("len", "sorted"), (module, node.lineno))
+
+    def test_stars_stand_over_names_alone(self):
+        for module, tree in trees().items():
+            for node in ast.walk(tree):
+                if isinstance(node, ast.Starred):
+                    self.assertIsInstance(node.value, ast.Name, (module, node.lineno))
+
+    def test_keywords_of_builtins(self):
+        for module, tree in trees().items():
+            for node in ast.walk(tree):
+                if called(node) in BUILTINS:
+                    told = [keyword.arg for keyword in node.keywords]
+                    self.assertIn(told, ([], ["default"]) if called(node) in ("min", "max") else ([],), (module, node.lineno))
+
+    def test_attributes_of_others_are_set_on_new_objects_alone(self):
+        for module, tree in trees().items():
+            for function in functions(tree):
+                made = {node.targets[0].id for node in ast.walk(function) if isinstance(node, ast.Assign)
+                        and isinstance(node.targets[0],
+                                       ast.Name) and called(node.value) in {part.name for part in classes(tree)}}
+                for node in ast.walk(function):
+                    if isinstance(node, ast.Attribute) and isinstance(node.ctx, ast.Store):
+                        right = made | ({"self"} if function.name == "__init__" else set())
+                        self.assertIn(ast.unparse(node.value), right, (module, node.lineno))
+
+
 class Words(unittest.TestCase):
     def test_statements_and_expressions(self):
         for module, tree in trees().items():

@@ -1,4 +1,6 @@
-"""What counts as an integer, and as a number in a line."""
+"""What counts as an integer, as an index, as a sign, and as a number in a line."""
+
+from crosswebs.errors import InvalidNumber
 
 MAX_FIGURES = 60
 # A power has to be written with a literal exponent, so MAX_FIGURES cannot stand in it.
@@ -18,6 +20,22 @@ def is_count(value):
 def are_counts(value):
     """Whether the value is a tuple of integers of at least 0, perhaps an empty one."""
     return isinstance(value, tuple) and all([is_count(part) for part in value])
+
+
+def is_sign(value):
+    """Whether the value is 1 or -1."""
+    return is_integer(value) and abs(value) == 1
+
+
+def are_signs(value, many):
+    """Whether the value is a tuple of so many signs."""
+    return isinstance(value, tuple) and len(value) == many and all([is_sign(part) for part in value])
+
+
+def check_index(value, many):
+    """Refuse what is no index of one of so many."""
+    if not (is_count(value) and value < many):
+        raise InvalidNumber(value)
 
 
 def is_line_number(value):

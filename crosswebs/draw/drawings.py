@@ -1,10 +1,14 @@
 """Drawings: crossings told by the strands at their ends, with free rings beside them."""
 
+from crosswebs.base.parts import classes_of, labels_of, walk_from, walks_of
 from crosswebs.base.words import are_counts, is_count, is_line_number
-from crosswebs.errors import InvalidDrawing, InvalidEnd, ParseError
+from crosswebs.errors import InvalidDrawing, InvalidEnd, InvalidOperation, ParseError, TooMany
 
 MAX_CROSSINGS = 9
 MAX_RINGS = 9
+# How a crossing that is taken away can have its ends joined: by the two smoothings, or straight through it.
+SMOOTHINGS = (((0, 1), (2, 3)), ((1, 2), (3, 0)))
+STRAIGHT = ((0, 2), (1, 3))
 
 
 class Drawing:
@@ -84,18 +88,13 @@ class Drawing:
     @property
     def numbered(self):
         """The same drawing with strands numbered as they come first."""
-        numbers = {}
-        for crossing in self._crossings:
-            for strand in crossing:
-                if strand not in numbers:
-                    numbers[strand] = len(numbers)
-        crossings = [(numbers[a], numbers[b], numbers[c], numbers[d]) for a, b, c, d in self._crossings]
-        return Drawing(tuple(crossings), rings=self._rings)
+        return Drawing(numbered_crossings(self._crossings), rings=self._rings)
 
     @property
     def mirror(self):
         """The drawing in which at each crossing the upper string is the lower one."""
-        return Drawing(tuple([(b, c, d, a) for a, b, c, d in self._crossings]), rings=self._rings)
+        ats = list(range(len(self._crossings)))
+        return Drawing(switched_crossings(self._crossings, ats), rings=self._rings)
 
     @property
     def behind(self):
@@ -110,7 +109,7 @@ class Drawing:
     def opposite(self, end):
         """The end of the same crossing and the same string."""
         _check_end(self, end)
-        return _opposite(end)
+        return opposite_end(end)
 
     def rim_at(self, corner):
         """The rim with a corner."""
@@ -120,7 +119,7 @@ class Drawing:
     def string_at(self, end):
         """The index of the string that passes an end."""
         _check_end(self, end)
-        other = _opposite(end)
+        other = opposite_end(end)
         return [end in string or other in string for string in self._strings].index(True)
 
     def __len__(self):
@@ -145,16 +144,62 @@ def is_end(drawing, value):
     return are_counts(value) and len(value) == 2 and value[0] < len(drawing) and value[1] < 4
 
 
+def check_drawing(value):
+    """Refuse what is no drawing."""
+    if not isinstance(value, Drawing):
+        raise InvalidDrawing("no drawing")
+
+
+def check_one_piece(value):
+    """Refuse what is no drawing, and a drawing that is not in one piece."""
+    check_drawing(value)
+    if not value.is_one_piece:
+        raise InvalidOperation("the drawing is not in one piece")
+
+
+def check_rings(many):
+    """Refuse more free rings than a drawing can have."""
+    if many > MAX_RINGS:
+        raise TooMany(MAX_RINGS)
+
+
 def _check_end(drawing, value):
     """Refuse what is no end and no corner of the drawing."""
     if not is_end(drawing, value):
         raise InvalidEnd("no end or corner of the drawing")
 
 
-def _opposite(end):
+def opposite_end(end):
     """The end opposite to an end."""
     at, number = end
     return (at, (number + 2) % 4)
+
+
+def numbered_crossings(crossings):
+    """The crossings with strands numbered as they come first, whatever told them apart."""
+    numbers = {}
+    for crossing in crossings:
+        for strand in crossing:
+            if strand not in numbers:
+                numbers[strand] = len(numbers)
+    return tuple([tuple([numbers[strand] for strand in crossing]) for crossing in crossings])
+
+
+def switched_crossings(crossings, ats):
+    """The crossings, at some of which the upper string becomes the lower one."""
+    return tuple([crossing[1:] + crossing[:1] if at in ats else crossing for at, crossing in enumerate(crossings)])
+
+
+def rejoined(crossings, ways):
+    """The numbered crossings behind some are taken away, and how many circles without ends come of it.
+
+    `ways` has for each crossing that goes the pairs of its ends that are joined.
+    """
+    pairs = [(crossings[at][one], crossings[at][other]) for at in ways for one, other in ways[at]]
+    labels = labels_of(2 * len(crossings), pairs)
+    left = [[labels[strand] for strand in crossing] for at, crossing in enumerate(crossings) if at not in ways]
+    rings = len(set(labels)) - len({strand for crossing in left for strand in crossing})
+    return (numbered_crossings(left), rings)
 
 
 def _is_line(value):
@@ -196,40 +241,22 @@ def _partners_of(strands):
 
 def _pieces_of(many, strands):
     """The ascending tuple of the pieces into which so many crossings fall."""
-    # Each crossing is labelled with the least one that is known to hang together with it.
-    labels = list(range(many))
-    for (one, _), (other, _) in strands:
-        low, high = sorted([labels[one], labels[other]])
-        labels = [low if label == high else label for label in labels]
-    return tuple([tuple([at for at in range(many) if labels[at] == least]) for least in sorted(set(labels))])
+    return classes_of(many, [(one, other) for (one, _), (other, _) in strands])
 
 
 def _rims_of(partners):
     """The ascending tuple of the rims, each from its least corner on."""
-    steps = {(at, number): partners[at, (number + 1) % 4] for at, number in partners}
-    rims = []
-    for corner in sorted(steps):
-        if not any([corner in rim for rim in rims]):
-            rims.append(_walk(steps, corner))
-    return tuple(rims)
+    return walks_of({(at, number): partners[at, (number + 1) % 4] for at, number in partners})
 
 
 def _strings_of(partners):
     """The strings by their first ends, ascending, each told by the ends at which one comes in."""
-    steps = {end: partners[_opposite(end)] for end in partners}
+    steps = {end: partners[opposite_end(end)] for end in partners}
     strings = []
     for end in sorted(steps):
-        if not any([end in string or _opposite(end) in string for string in strings]):
-            strings.append(_walk(steps, end))
+        if not any([end in string or opposite_end(end) in string for string in strings]):
+            strings.append(walk_from(steps, end))
     return tuple(strings)
-
-
-def _walk(steps, first):
-    """What comes by the steps, one after the other, until the first one would come again."""
-    walk = [first]
-    while steps[walk[-1]] != first:
-        walk.append(steps[walk[-1]])
-    return tuple(walk)
 
 
 def _are_flat(pieces, rims):

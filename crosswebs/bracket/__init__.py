@@ -1,0 +1,1 @@
+"""The bracket of a drawing, worked in several ways."""

@@ -1,0 +1,1 @@
+"""Webs, and webs that are drawn on a ball."""
