@@ -32,14 +32,9 @@ class Row:
     @classmethod
     def of_text(cls, text):
         """The row with a text."""
-        terms = _terms_in(text)
-        if not _are_terms(terms):
+        if not is_text(text):
             raise ParseError(None)
-        row = cls(terms)
-        # The terms are read generously; a row has just one text, so comparing refuses all others.
-        if str(row) != text:
-            raise ParseError(None)
-        return row
+        return cls(_terms_in(text))
 
     @property
     def terms(self):
@@ -64,19 +59,19 @@ class Row:
     @property
     def turned(self):
         """The row with 1 / x in the place of x."""
-        return _row_of({-exponent: self._terms[exponent] for exponent in self._terms})
+        return row_of({-exponent: self._terms[exponent] for exponent in self._terms})
 
     def shifted(self, many):
         """The row times the power of x with an exponent."""
         if not is_integer(many):
             raise InvalidNumber(many)
-        return _row_of({exponent + many: self._terms[exponent] for exponent in self._terms})
+        return row_of({exponent + many: self._terms[exponent] for exponent in self._terms})
 
     def spread(self, many):
         """The row with a power of x in the place of x."""
         if not is_integer(many) or many == 0:
             raise InvalidNumber(many)
-        return _row_of({exponent * many: self._terms[exponent] for exponent in self._terms})
+        return row_of({exponent * many: self._terms[exponent] for exponent in self._terms})
 
     def at(self, value):
         """What comes of the row if x is 1 or -1."""
@@ -100,33 +95,32 @@ class Row:
 
     def quotient(self, other):
         """The row whose product with another one is this row."""
-        if not isinstance(other, Row):
-            raise InvalidRow("no row")
+        check_row(other)
         terms = _quotient_of(self._terms, other._terms)
         if terms is None:
             raise InvalidOperation("there is no such row")
-        return _row_of(terms)
+        return row_of(terms)
 
     def __add__(self, other):
         terms = _terms_told(other)
         if terms is None:
             return NotImplemented
-        return _row_of(_sum_of(self._terms, terms))
+        return row_of(_sum_of(self._terms, terms))
 
     def __sub__(self, other):
         terms = _terms_told(other)
         if terms is None:
             return NotImplemented
-        return _row_of(_sum_of(self._terms, _product_of(terms, {0: -1})))
+        return row_of(_sum_of(self._terms, _product_of(terms, {0: -1})))
 
     def __mul__(self, other):
         terms = _terms_told(other)
         if terms is None:
             return NotImplemented
-        return _row_of(_product_of(self._terms, terms))
+        return row_of(_product_of(self._terms, terms))
 
     def __neg__(self):
-        return _row_of(_product_of(self._terms, {0: -1}))
+        return row_of(_product_of(self._terms, {0: -1}))
 
     def __getitem__(self, exponent):
         if not is_integer(exponent):
@@ -149,6 +143,28 @@ class Row:
         return str(_text_of(self._terms))
 
 
+def check_row(value):
+    """Refuse what is no row."""
+    if not isinstance(value, Row):
+        raise InvalidRow("no row")
+
+
+def is_text(value):
+    """Whether the value is the text of a row that can be made of a dict."""
+    terms = _terms_in(value)
+    # The terms are read generously; a row has just one text, so comparing refuses all others.
+    return _are_terms(terms) and str(Row(terms)) == value
+
+
+def row_of(terms):
+    """The row of terms that were worked out: in any order, some perhaps 0, with integers of any length."""
+    left = {exponent: terms[exponent] for exponent in sorted(terms) if terms[exponent] != 0}
+    _check_exponents(left)
+    row = Row({})
+    row._terms = left
+    return row
+
+
 def _is_exponent(value):
     """Whether the value is an integer that can be an exponent."""
     return is_integer(value) and abs(value) <= MAX_POWER
@@ -165,15 +181,6 @@ def _check_exponents(exponents):
     """Refuse exponents beyond the limit."""
     if any([abs(exponent) > MAX_POWER for exponent in exponents]):
         raise TooMany(MAX_POWER)
-
-
-def _row_of(terms):
-    """The row of terms that were worked out: in any order, some perhaps 0, with integers of any length."""
-    left = {exponent: terms[exponent] for exponent in sorted(terms) if terms[exponent] != 0}
-    _check_exponents(left)
-    row = Row({})
-    row._terms = left
-    return row
 
 
 def _terms_told(value):

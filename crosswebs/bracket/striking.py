@@ -1,7 +1,6 @@
 """The row of a web: by all choices of ties, and by striking and drawing together one tie after the other."""
 
 from crosswebs.base.parts import count_classes, each_choice
-from crosswebs.base.rows import Row
 from crosswebs.base.words import check_index
 from crosswebs.bracket.smoothings import bracket_of, smoothed_crossings, sum_of_states
 from crosswebs.draw.drawings import check_drawing

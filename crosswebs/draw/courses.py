@@ -107,6 +107,12 @@ def each_course(drawing):
         yield Course(drawing, *backward)
 
 
+def check_course(value):
+    """Refuse what is no course."""
+    if not isinstance(value, Course):
+        raise InvalidCourse("no course")
+
+
 def _ends_along(string, is_backward):
     """The ends at which a string comes in, in its direction."""
     return tuple([opposite_end(end) for end in string[::-1]]) if is_backward else string

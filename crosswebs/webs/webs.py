@@ -77,7 +77,8 @@ class Web:
         """The ascending tuple of the ascending tuples of ties that are in one block."""
         # The rings that all ties have with one joining tree of each lot tell the blocks; a tree's own ties add nothing.
         forest = _forest_of(self)
-        pairs = [(tie, part) for tie in range(len(self._ties)) for part in _ring_of(self, forest, tie)]
+        closed = sets_closed(self, forest)
+        pairs = [(tie, part) for tie, ring in enumerate(closed) if tie not in forest for part in ring]
         return classes_of(len(self._ties), pairs)
 
     def struck(self, tie):
@@ -155,7 +156,7 @@ def cut_closed(web, tree, tie):
     check_index(tie, len(web))
     if tie not in tree:
         raise InvalidOperation("the tie is none of the tree")
-    return _cut_of(web, tree, tie)
+    return sets_closed(web, tree)[tie]
 
 
 def ring_closed(web, tree, tie):
@@ -164,7 +165,14 @@ def ring_closed(web, tree, tie):
     check_index(tie, len(web))
     if tie in tree:
         raise InvalidOperation("the tie is one of the tree")
-    return _ring_of(web, tree, tie)
+    return sets_closed(web, tree)[tie]
+
+
+def sets_closed(web, forest):
+    """By ties, the cut of each of some ties without a ring, and the ring of each other tie: ascending tuples."""
+    cuts = {part: _cut_of(web, forest, part) for part in forest}
+    rings = [sorted([tie] + [part for part in forest if tie in cuts[part]]) for tie in range(len(web))]
+    return tuple([cuts[tie] if tie in cuts else tuple(ring) for tie, ring in enumerate(rings)])
 
 
 def check_web(value):
@@ -231,8 +239,3 @@ def _cut_of(web, forest, tie):
     rest = [web.ties[part] for part in forest if part != tie]
     labels = labels_of(web.many, _ends_of(rest))
     return tuple([part for part, (one, other, _) in enumerate(web.ties) if labels[one] != labels[other]])
-
-
-def _ring_of(web, forest, tie):
-    """The tie and those of some ties without a ring that are on a ring with it, ascending."""
-    return tuple(sorted([tie] + [part for part in forest if tie in _cut_of(web, forest, part)]))

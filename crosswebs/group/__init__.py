@@ -1,0 +1,1 @@
+"""Class groups of drawings, and colourings."""
