@@ -6,6 +6,7 @@ from crosswebs.base.rows import Row
 from crosswebs.draw.courses import Course
 from crosswebs.draw.drawings import Drawing
 from crosswebs.errors import InvalidDrawing, InvalidNumber, ParseError
+from crosswebs.use.bench import Bench
 from crosswebs.webs.shades import Shade
 from crosswebs.webs.webs import Web
 from tests.plain import is_flat, tables
@@ -89,7 +90,7 @@ OTHERS = [
     nested(0, 8), nested(None, 8), nested("ring", 7), RING, KNOT, (CURL,), (CURL, 0), [KNOT],
     Row({0: 1}), Row.none(), Course(KNOT), Course(LINKED, 1), (Course(RING),), Web(1, ()), Web(2, ((0, 1, 1),)),
     Shade((((0, 0),), ((0, 1),)), (-1,)), (Row({2: -1}), Web(1, ((0, 0, 1),))), {0: Row({1: 1})},
-    InvalidDrawing("no drawing"), InvalidNumber(0), ParseError(None),
+    InvalidDrawing("no drawing"), InvalidNumber(0), ParseError(None), Bench(KNOT), (Bench(RING), 0), Bench(CURL).trial(),
 ]
 NUMBERS = [-1, -(10 ** 59), -(10 ** 60), 10, 10 ** 59, 10 ** 60 - 1, 10 ** 60, 10 ** 99, -(10 ** 99)]
 WRONG = OTHERS + NUMBERS

@@ -221,6 +221,22 @@ class Papers(unittest.TestCase):
             self.assertIs(is_fewest_paper(KNOT, paper), False, paper)
         self.assertIs(is_fewest_paper(KNOT, ("long", (2, 3), ring)), True)
 
+    def test_rings_of_what_is_not_long(self):
+        self.assertEqual((pure_circles(PLAIN), blocks_alike(PLAIN)), ((1, 2), False))
+        self.assertIs(is_fewest_paper(PLAIN, ("long", (1, 2), ((0, 1, 2),) * 3)), False)
+        loop = Drawing(((0, 1, 1, 0),))
+        self.assertEqual((sum(pure_circles(loop)), fewest_paper(loop)), (3, ("loop", 0)))
+        self.assertIs(is_fewest_paper(loop, ("long", pure_circles(loop), ((0,),))), False)
+
+    def test_ties_that_there_are_not(self):
+        for drawing in (PLAIN, KNOT, LINKED):
+            many = len(drawing)
+            for ring in ((0, many), (many,), (0, 1, many), (many, many + 1), (0, 9), (0, -1), (-1, 0)):
+                self.assertIs(is_fewest_paper(drawing, ("mixed", ring)), False)
+                self.assertIs(is_fewest_paper(drawing, ("long", pure_circles(drawing), ((0, 1),) * (many - 1) + (ring,))), False)
+            for word in ("bridge", "loop"):
+                self.assertIs(is_fewest_paper(drawing, (word, many)), False)
+
 
 class Refused(unittest.TestCase):
     def test_wrong_arguments(self):

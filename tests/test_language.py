@@ -142,6 +142,8 @@ def called(node):
 class Uses(unittest.TestCase):
     """Rules about what stands where: L5, L7, L15, L18, L22, L23, L24."""
 
+    # Only benches ever change, and the blocks with them.
+    changing = [("crosswebs.use.bench", name) for name in ("_turn_to", "__enter__", "__exit__")]
     iterated = "list tuple sorted sum min max any all enumerate zip iter dict".split()
 
     def test_locals_have_no_name_of_an_import_or_a_class(self):
@@ -172,7 +174,20 @@ class Uses(unittest.TestCase):
     def test_nothing_is_caught_added_in_place_or_passed_on_as_a_lambda(self):
         for module, tree in trees().items():
             for node in ast.walk(tree):
-                self.assertNotIsInstance(node, (ast.Try, ast.AugAssign, ast.Lambda, ast.With, ast.Match, ast.NamedExpr), module)
+                self.assertNotIsInstance(node, (ast.Try, ast.AugAssign, ast.Lambda, ast.Match, ast.NamedExpr), module)
+
+    def test_with_stands_over_a_call_that_gives_a_trial(self):
+        for module, tree in trees().items():
+            for node in ast.walk(tree):
+                if isinstance(node, ast.With):
+                    self.assertEqual([ast.unparse(item.context_expr) for item in node.items], ["self.trial()"], module)
+
+    def test_blocks_end_with_plain_assignments(self):
+        for module, tree in trees().items():
+            for function in functions(tree):
+                if function.name == "__exit__":
+                    for node in function.body:
+                        self.assertRegex(ast.unparse(node), r"^(\w+|\w+\._\w+) = self\._\w+$", module)
 
     def test_views_and_generators_are_iterated_at_once(self):
         all_trees = trees()
@@ -222,6 +237,7 @@ class Uses(unittest.TestCase):
                 for node in ast.walk(function):
                     if isinstance(node, ast.Attribute) and isinstance(node.ctx, ast.Store):
                         right = made | ({"self"} if function.name == "__init__" else set())
+                        right |= {"self", "bench"} if (module, function.name) in self.changing else set()
                         self.assertIn(ast.unparse(node.value), right, (module, node.lineno))
 
 

@@ -261,6 +261,14 @@ class Papers(unittest.TestCase):
                 self.assertIs(is_tree_paper(web, value), False, value)
                 check_refused(self, InvalidPaper, row_of_paper, web, value)
 
+    def test_ties_that_there_are_not(self):
+        # One reach is too small, and another one seems to be as large as both together.
+        for paper in ((((0,), (), (0,)), ((1,), (1,), (0, 1, 3)), ((2,), (2,), (0, 2))),
+                      (((0,), (), (0, 3)), ((1,), (1,), (0, 1)), ((2,), (2,), (0, 2))),
+                      (((0,), (), (0,)), ((1,), (1,), (0, 1)), ((2,), (2,), (0, 1, 3)))):
+            self.assertIs(is_tree_paper(THREE, paper), False)
+            check_refused(self, InvalidPaper, row_of_paper, THREE, paper)
+
     def test_values_like_papers(self):
         for web in (THREE, TRIANGLE, ONE, MIXED):
             papers = [tree_paper(web, order) for order in some_orders(web)[:2]]

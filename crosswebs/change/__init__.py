@@ -1,0 +1,1 @@
+"""Crossings at which the upper string becomes the lower one."""

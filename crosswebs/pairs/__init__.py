@@ -1,0 +1,1 @@
+"""Pairings of crossings and rims, and what comes of them."""

@@ -1,0 +1,1 @@
+"""A bench to work on a drawing."""
