@@ -98,10 +98,14 @@ def _by_relation(strings, signs):
     if not lower:
         return Row.power(0) if len(strings) == 1 else Row.none()
     at = lower[0]
-    others = [tuple([(mark, 1 - level if mark == at else level) for mark, level in string]) for string in strings]
-    turned = tuple([-sign if mark == at else sign for mark, sign in enumerate(signs)])
+    other_signs = tuple([-sign if mark == at else sign for mark, sign in enumerate(signs)])
     rest = _by_relation(_smoothed_strings(strings, at), signs).shifted(1) * signs[at]
-    return _by_relation(others, turned) + rest
+    return _by_relation([_switched_string(string, at) for string in strings], other_signs) + rest
+
+
+def _switched_string(string, at):
+    """The string, which passes a crossing as the upper string where it was the lower one, and the other way round."""
+    return tuple([(mark, 1 - level if mark == at else level) for mark, level in string])
 
 
 def _smoothed_strings(strings, at):

@@ -85,8 +85,8 @@ def signature(course, *, light=False):
     far_rims = dark_rims(drawing) if light else light_rims(drawing)
     far = [corner for rim in far_rims for corner in rim]
     opening = [(at, (_closing_corner(course, at) + 2) % 4) for at in range(len(drawing))]
-    turned = sum([sign for sign, corner in zip(web.signs, opening) if corner in far])
-    return turned - _signature_of(table_of(web))
+    opening_far = sum([sign for sign, corner in zip(web.signs, opening) if corner in far])
+    return opening_far - _signature_of(table_of(web))
 
 
 def _closing_corner(course, crossing):
