@@ -134,6 +134,14 @@ def is_generator(function):
     return any(isinstance(node, (ast.Yield, ast.YieldFrom)) for node in ast.walk(function))
 
 
+def kept_name(function):
+    """The attribute in which a property keeps its answer, None if it does not just that."""
+    lines = [ast.unparse(node) for node in function.body[1:]]
+    found = re.fullmatch(r"if self\.(_\w+) is None:\n    self\.\1 = [^\n]+\nreturn self\.\1", "\n".join(lines))
+    marks = [ast.unparse(mark) for mark in function.decorator_list]
+    return found[1] if found and marks == ["property"] else None
+
+
 def called(node):
     """The bare name that a call calls."""
     return node.func.id if isinstance(node, ast.Call) and isinstance(node.func, ast.Name) else None
@@ -238,7 +246,21 @@ class Uses(unittest.TestCase):
                     if isinstance(node, ast.Attribute) and isinstance(node.ctx, ast.Store):
                         right = made | ({"self"} if function.name == "__init__" else set())
                         right |= {"self", "bench"} if (module, function.name) in self.changing else set()
+                        right |= {"self"} if kept_name(function) == node.attr else set()
                         self.assertIn(ast.unparse(node.value), right, (module, node.lineno))
+
+    def test_kept_answers_are_read_by_their_properties_alone(self):
+        all_trees = trees()
+        told = [node for tree in all_trees.values() for node in ast.walk(tree)]
+        attributes = [node.attr for node in told if isinstance(node, ast.Attribute)]
+        texts = [node.value for node in told if isinstance(node, ast.Constant)]
+        for node in [node for tree in all_trees.values() for node in classes(tree)]:
+            begins = [line for part in functions(node) if part.name == "__init__" for line in map(ast.unparse, part.body)]
+            for name in [kept_name(part) for part in functions(node) if kept_name(part)]:
+                self.assertIn(f"self.{name} = None", begins)
+                # Once in `__init__`, and asked, assigned and returned in the property.
+                self.assertEqual(attributes.count(name), 4, name)
+                self.assertNotIn(name, texts)
 
 
 class Words(unittest.TestCase):

@@ -8,9 +8,10 @@ from crosswebs.bracket.smoothings import bracket
 from crosswebs.draw import moves
 from crosswebs.draw.courses import Course
 from crosswebs.draw.drawings import Drawing
-from crosswebs.draw.joins import is_matching, matching
+from crosswebs.draw.joins import apart, is_matching, matching
 from crosswebs.draw.moves import back_move, each_move, is_move, moved
 from crosswebs.errors import InvalidDrawing, InvalidMove
+from tests.grown import GROWN, grown
 from tests.plain import all_ends, is_flat
 from tests.plain_moves import candidates, plain_moved, plain_moves
 from tests.refusals import broken, check_arguments, check_generator, check_judged, check_plain, check_refused, wrong_but
@@ -21,6 +22,13 @@ NO_DRAWINGS = wrong_but(Drawing)
 SLID = REACHED[0]
 TWO_CURLS = Drawing(((0, 0, 1, 1), (2, 2, 3, 3)))
 SOME = SAMPLES + REACHED + SMALL[::70]
+
+# Drawings of up to seven crossings: in one piece, with free rings, and in several pieces.
+WHOLE = [drawing for drawing in GROWN if len(drawing) <= 7] + [grown(seed, 5 + seed % 3, 0.2) for seed in range(40, 52)]
+RINGED = [Drawing(drawing.crossings, rings=1 + at % 9) for at, drawing in enumerate(WHOLE[::2])]
+PARTED = [apart(grown(seed, 1 + seed % 4), Drawing(grown(seed + 60, 3 - seed % 3).crossings, rings=max(0, seed - 10)))
+          for seed in range(20)]
+SCATTERED = [apart(one, apart(other, CURL)) for one in (CURL, LINKED, KNOT, SLID) for other in (RING, CURL, LINKED, KNOT)]
 
 
 def thinned(told):
@@ -65,6 +73,23 @@ class Each(unittest.TestCase):
             told = list(each_move(drawing))
             self.assertEqual(told, sorted(plain_moves(drawing.crossings, drawing.rings)))
             check_plain(self, tuple(told))
+
+    def test_just_what_is_move_takes(self):
+        words = set()
+        for drawing in WHOLE + RINGED + PARTED + SCATTERED + [Drawing(rings=many) for many in range(1, 10)]:
+            self.assertLessEqual(len(drawing), 7)
+            told = list(each_move(drawing))
+            self.assertEqual(told, [move for move in sorted(candidates(drawing.crossings)) if is_move(drawing, move)])
+            self.assertTrue(all(one < other for one, other in zip(told, told[1:])))
+            words.update((move[0], len(drawing.pieces) > 1, drawing.rings > 0) for move in told)
+        whole = [(word, False, False) for word in ("curl", "lap", "slide", "uncurl", "unlap")]
+        parted = [(word, True, ringed) for word in ("curl", "lap", "slide", "uncurl", "unlap") for ringed in (False, True)]
+        self.assertLessEqual(set(whole + parted + [("curl ring", False, True), ("curl ring", True, True)]), words)
+
+    def test_just_what_is_move_takes_at_the_limits(self):
+        for drawing in [drawing for drawing in SOME + GROWN if len(drawing) > 7 or drawing.rings == 9]:
+            told = list(each_move(drawing))
+            self.assertEqual(told, [move for move in sorted(candidates(drawing.crossings)) if is_move(drawing, move)])
 
     def test_what_is_no_move(self):
         for drawing in SAMPLES[:8] + REACHED[:7] + SMALL[::300]:
@@ -159,6 +184,18 @@ class Behind(unittest.TestCase):
                 behind = moved(drawing, move)
                 self.assertEqual((behind.crossings, behind.rings), (crossings, rings), (drawing.lines, move))
                 self.assertTrue(is_flat(crossings))
+
+    def test_what_is_told_of_drawings_behind_moves(self):
+        for drawing in REACHED + PARTED:
+            for move in thinned(list(each_move(drawing))):
+                behind = moved(drawing, move)
+                same = Drawing(behind.crossings, rings=behind.rings)
+                self.assertEqual((behind, behind.lines, str(behind)), (same, same.lines, str(same)))
+                self.assertEqual((behind.strands, behind.pieces, behind.rims, behind.strings),
+                                 (same.strands, same.pieces, same.rims, same.strings))
+                self.assertEqual((behind.many_strings, behind.is_one_piece), (same.many_strings, same.is_one_piece))
+                self.assertEqual([behind.partner(end) for end in all_ends(behind.crossings)],
+                                 [same.partner(end) for end in all_ends(same.crossings)])
 
     def test_what_moves_change_and_keep(self):
         change = {"curl": 1, "curl ring": 1, "uncurl": -1, "lap": 2, "unlap": -2, "slide": 0}

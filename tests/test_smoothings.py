@@ -3,6 +3,7 @@
 import inspect
 import unittest
 from itertools import product
+from random import Random
 
 from crosswebs.base.rows import Row
 from crosswebs.bracket import smoothings
@@ -11,10 +12,12 @@ from crosswebs.bracket.smoothings import (bracket, circles, count_circles, each_
 from crosswebs.draw.drawings import Drawing
 from crosswebs.draw.joins import apart, summed
 from crosswebs.errors import InvalidDrawing, InvalidNumber, InvalidSmoothing, TooMany
+from tests.grown import GROWN, LARGE
 from tests.plain_brackets import circle_groups, circles_to, plain_bracket, times
 from tests.plain_moves import Ends
 from tests.refusals import check_arguments, check_generator, check_judged, check_plain, check_refused, wrong_but, wrong_indices
-from tests.samples import CURL, EIGHT, KNOT, LINKED, NINE, REACHED, RING, SAMPLES, SMALL, TWO_PIECES, WRONG, curls, twisted
+from tests.samples import (CURL, EIGHT, KNOT, LINKED, NINE, REACHED, RING, SAMPLES, SMALL, TWO_PIECES, WRONG, curls, shuffled,
+                           twisted)
 
 NO_DRAWINGS = wrong_but(Drawing)
 ALL = SAMPLES + REACHED + SMALL[::20]
@@ -153,6 +156,21 @@ class Brackets(unittest.TestCase):
         for many in range(1, 10):
             self.assertEqual(bracket(Drawing(rings=many)).terms, circles_to(many - 1))
             self.assertEqual(bracket(Drawing(curls(1), rings=many)).terms, times({3: -1}, circles_to(many)))
+
+    def test_sums_of_large_drawings(self):
+        parted = [apart(one, other) for one in GROWN[:3] for other in GROWN[7:10] if len(one) + len(other) <= 9]
+        for at, drawing in enumerate(GROWN + LARGE + parted):
+            for rings in (0, 1 + at % 9):
+                told = plain_bracket(drawing.crossings, rings)
+                self.assertEqual(bracket(Drawing(drawing.crossings, rings=rings)).terms, told)
+
+    def test_other_orders_of_crossings(self):
+        chance = Random(0)
+        for drawing in LARGE + [NINE, Drawing(curls(9), rings=9), Drawing(twisted(8))]:
+            for _ in range(20):
+                crossings = chance.sample(drawing.crossings, len(drawing))
+                self.assertEqual(bracket(Drawing(tuple(crossings), rings=drawing.rings)), bracket(drawing))
+            self.assertEqual(bracket(Drawing(shuffled(drawing.crossings), rings=drawing.rings)), bracket(drawing))
 
     def test_mirrors_and_views_from_behind(self):
         for drawing in ALL:

@@ -1,4 +1,4 @@
-"""Classes of members that hang together, walks that come round, and choices of indices."""
+"""Classes of members that hang together, walks that come round, choices of indices, and sums by keys."""
 
 
 def labels_of(many, pairs):
@@ -33,9 +33,13 @@ def walk_from(steps, first):
 def walks_of(steps):
     """The ascending tuple of all walks by the steps, each from its least member on."""
     walks = []
+    passed = {}
     for first in sorted(steps):
-        if not any([first in walk for walk in walks]):
-            walks.append(walk_from(steps, first))
+        if first not in passed:
+            walk = walk_from(steps, first)
+            walks.append(walk)
+            for part in walk:
+                passed[part] = True
     return tuple(walks)
 
 
@@ -46,3 +50,11 @@ def each_choice(many, chosen=()):
     for index in range(first, many):
         longer = chosen + (index,)
         yield from each_choice(many, longer)
+
+
+def sums_of(one, other):
+    """By the keys of two dicts of integers, the sums of what they have there, some of them perhaps 0."""
+    sums = {key: one[key] for key in one}
+    for key in other:
+        sums[key] = sums.get(key, 0) + other[key]
+    return sums

@@ -1,5 +1,6 @@
 """Rows: sums of integers times powers of one letter, whose exponents can be below 0."""
 
+from crosswebs.base.parts import sums_of
 from crosswebs.base.words import MAX_FIGURES, is_integer, is_sign
 from crosswebs.errors import InvalidNumber, InvalidOperation, InvalidRow, ParseError, TooMany
 
@@ -105,13 +106,13 @@ class Row:
         terms = _terms_told(other)
         if terms is None:
             return NotImplemented
-        return row_of(_sum_of(self._terms, terms))
+        return row_of(sums_of(self._terms, terms))
 
     def __sub__(self, other):
         terms = _terms_told(other)
         if terms is None:
             return NotImplemented
-        return row_of(_sum_of(self._terms, _product_of(terms, {0: -1})))
+        return row_of(sums_of(self._terms, _product_of(terms, {0: -1})))
 
     def __mul__(self, other):
         terms = _terms_told(other)
@@ -188,14 +189,6 @@ def _terms_told(value):
     if isinstance(value, Row):
         return value._terms
     return {0: value} if is_integer(value) else None
-
-
-def _sum_of(one, other):
-    """The terms of a sum, some of them perhaps 0."""
-    terms = {exponent: one[exponent] for exponent in one}
-    for exponent in other:
-        terms[exponent] = terms.get(exponent, 0) + other[exponent]
-    return terms
 
 
 def _product_of(one, other):

@@ -1,10 +1,13 @@
 """Smoothings of a drawing, their circles, and the bracket, the sum over all of them."""
 
-from crosswebs.base.parts import classes_of, count_classes
-from crosswebs.base.rows import Row
+from crosswebs.base.parts import classes_of, count_classes, sums_of
+from crosswebs.base.rows import Row, row_of
 from crosswebs.base.words import are_counts, check_index, is_count
 from crosswebs.draw.drawings import SMOOTHINGS, Drawing, check_drawing, check_rings, rejoined
 from crosswebs.errors import InvalidNumber, InvalidSmoothing
+
+# Stands for a strand without a free end.
+_CLOSED = -1
 
 
 def is_smoothing(drawing, value):
@@ -63,24 +66,21 @@ def smoothed_crossings(drawing, crossing, way):
 
 def bracket_of(crossings, rings):
     """The bracket of crossings and so many free rings, however many they are."""
-    many = len(crossings)
-    states = []
-    for number in range(1 << many):
-        smoothing = _smoothing_at(many, number)
-        states.append((many - 2 * sum(smoothing), _count(crossings, rings, smoothing)))
-    return sum_of_states(states)
+    # Smoothings of the first crossings that join the strands to the same chains go on alike, so they are counted
+    # together. Chains are told by strands: for each one with a free end, the strand at the other end of its chain.
+    strands = 2 * len(crossings)
+    states = {tuple(range(strands)): {(0, rings): 1}}
+    for crossing in crossings:
+        states = _states_behind(states, crossing)
+    return _sum_of_counts(states[(_CLOSED,) * strands])
 
 
 def sum_of_states(states):
     """The sum of x to the power of the weight times d to the power of the circles less 1, over weights and circles."""
-    circle = Row({-2: -1, 2: -1})
-    many = {}
+    counts = {}
     for state in states:
-        many[state] = many.get(state, 0) + 1
-    total = Row.none()
-    for weight, count in many:
-        total = total + circle.raised(count - 1) * Row.power(weight, many=many[weight, count])
-    return total
+        counts[state] = counts.get(state, 0) + 1
+    return _sum_of_counts(counts)
 
 
 def _check_smoothing(drawing, value):
@@ -96,10 +96,50 @@ def _smoothing_at(many, number):
 
 def _joins_of(crossings, smoothing):
     """The pairs of strands whose ends are joined by a smoothing."""
-    return [(crossing[one], crossing[other])
-            for crossing, way in zip(crossings, smoothing) for one, other in SMOOTHINGS[way]]
+    return [pair for crossing, way in zip(crossings, smoothing) for pair in _joins_at(crossing, way)]
+
+
+def _joins_at(crossing, way):
+    """The pairs of strands whose ends are joined at a crossing."""
+    return [(crossing[one], crossing[other]) for one, other in SMOOTHINGS[way]]
 
 
 def _count(crossings, rings, smoothing):
     """The number of all circles, so many free rings among them."""
     return rings + count_classes(2 * len(crossings), _joins_of(crossings, smoothing))
+
+
+def _states_behind(states, crossing):
+    """By chains, how often each weight and number of circles is there, behind a crossing more is smoothed."""
+    behind = {}
+    for chains, counts in states.items():
+        for way in range(len(SMOOTHINGS)):
+            left, circled = _chains_behind(chains, _joins_at(crossing, way))
+            told = {(weight + 1 - 2 * way, number + circled): counts[weight, number] for weight, number in counts}
+            behind[left] = sums_of(behind.get(left, {}), told)
+    return behind
+
+
+def _chains_behind(chains, pairs):
+    """The chains behind pairs of free ends are joined, and how many circles are closed by it."""
+    left = list(chains)
+    circled = 0
+    for one, other in pairs:
+        first, last = left[one], left[other]
+        left[one] = left[other] = _CLOSED
+        if first == other:
+            circled = circled + 1
+        else:
+            left[first], left[last] = last, first
+    return (tuple(left), circled)
+
+
+def _sum_of_counts(counts):
+    """The sum over weights and circles, by how often each pair of them is there."""
+    circle = Row({-2: -1, 2: -1})
+    total = Row.none()
+    # What has the most circles comes first, and is multiplied by d at each step to come.
+    for number in range(max([told for _, told in counts]), 0, -1):
+        terms = {weight: counts[weight, told] for weight, told in counts if told == number}
+        total = total * circle + row_of(terms)
+    return total

@@ -11,6 +11,54 @@ SMOOTHINGS = (((0, 1), (2, 3)), ((1, 2), (3, 0)))
 STRAIGHT = ((0, 2), (1, 3))
 
 
+class Layout:
+    """What crossings lead to; each answer is worked out when it is asked for first, and kept."""
+
+    # Of many drawings, as of those behind moves, little is asked, and to work out all takes longer than the move.
+    def __init__(self, crossings):
+        self._crossings = crossings
+        self._strands = None
+        self._partners = None
+        self._pieces = None
+        self._rims = None
+        self._strings = None
+
+    @property
+    def strands(self):
+        """By strands, the ascending pairs of their ends."""
+        if self._strands is None:
+            self._strands = _strands_of(self._crossings)
+        return self._strands
+
+    @property
+    def partners(self):
+        """By ends, the ends that are joined with them."""
+        if self._partners is None:
+            self._partners = _partners_of(self.strands)
+        return self._partners
+
+    @property
+    def pieces(self):
+        """The ascending tuple of the ascending tuples of the crossings of a piece."""
+        if self._pieces is None:
+            self._pieces = _pieces_of(len(self._crossings), self.strands)
+        return self._pieces
+
+    @property
+    def rims(self):
+        """The ascending tuple of the rims, each a tuple of corners."""
+        if self._rims is None:
+            self._rims = _rims_of(self.partners)
+        return self._rims
+
+    @property
+    def strings(self):
+        """The strings by their first ends, ascending, each told by the ends at which one comes in."""
+        if self._strings is None:
+            self._strings = _strings_of(self.partners)
+        return self._strings
+
+
 class Drawing:
     """Strings drawn on a ball; it never changes."""
 
@@ -21,13 +69,9 @@ class Drawing:
             raise InvalidDrawing("there is no string")
         self._crossings = crossings
         self._rings = rings
-        self._strands = _strands_of(crossings)
-        self._partners = _partners_of(self._strands)
-        self._pieces = _pieces_of(len(crossings), self._strands)
-        self._rims = _rims_of(self._partners)
-        if not _are_flat(self._pieces, self._rims):
+        self._layout = Layout(crossings)
+        if not _are_flat(self._layout.pieces, self._layout.rims):
             raise InvalidDrawing("the crossings cannot be drawn on a ball")
-        self._strings = _strings_of(self._partners)
 
     @classmethod
     def from_lines(cls, *lines):
@@ -58,32 +102,32 @@ class Drawing:
     @property
     def strands(self):
         """By strands, the ascending pairs of their ends."""
-        return self._strands
+        return self._layout.strands
 
     @property
     def pieces(self):
         """The ascending tuple of the ascending tuples of the crossings of a piece."""
-        return self._pieces
+        return self._layout.pieces
 
     @property
     def rims(self):
         """The ascending tuple of the rims, each a tuple of corners."""
-        return self._rims
+        return self._layout.rims
 
     @property
     def strings(self):
         """The strings that pass crossings, each the tuple of the ends at which one comes in."""
-        return self._strings
+        return self._layout.strings
 
     @property
     def many_strings(self):
         """The number of all strings, the free rings among them."""
-        return len(self._strings) + self._rings
+        return len(self._layout.strings) + self._rings
 
     @property
     def is_one_piece(self):
         """Whether the drawing is one piece, without free rings."""
-        return len(self._pieces) == 1 and self._rings == 0
+        return len(self._layout.pieces) == 1 and self._rings == 0
 
     @property
     def numbered(self):
@@ -104,7 +148,7 @@ class Drawing:
     def partner(self, end):
         """The end that is joined with an end."""
         _check_end(self, end)
-        return self._partners[end]
+        return self._layout.partners[end]
 
     def opposite(self, end):
         """The end of the same crossing and the same string."""
@@ -114,13 +158,14 @@ class Drawing:
     def rim_at(self, corner):
         """The rim with a corner."""
         _check_end(self, corner)
-        return self._rims[[corner in rim for rim in self._rims].index(True)]
+        rims = self._layout.rims
+        return rims[[corner in rim for rim in rims].index(True)]
 
     def string_at(self, end):
         """The index of the string that passes an end."""
         _check_end(self, end)
         other = opposite_end(end)
-        return [end in string or other in string for string in self._strings].index(True)
+        return [end in string or other in string for string in self._layout.strings].index(True)
 
     def __len__(self):
         return len(self._crossings)
@@ -137,6 +182,16 @@ class Drawing:
 
     def __str__(self):
         return f"drawing of {len(self._crossings)} crossings, {self.many_strings} strings, {self._rings} rings"
+
+
+def flat_drawing(crossings, rings):
+    """The drawing of flat crossings and so many free rings, both known to be of their kind."""
+    # To ask what is known anew, as for callers, would take longer than a move.
+    drawing = Drawing(rings=1)
+    drawing._crossings = crossings
+    drawing._rings = rings
+    drawing._layout = Layout(crossings)
+    return drawing
 
 
 def is_end(drawing, value):
@@ -253,9 +308,13 @@ def _strings_of(partners):
     """The strings by their first ends, ascending, each told by the ends at which one comes in."""
     steps = {end: partners[opposite_end(end)] for end in partners}
     strings = []
-    for end in sorted(steps):
-        if not any([end in string or opposite_end(end) in string for string in strings]):
-            strings.append(walk_from(steps, end))
+    passed = {}
+    for first in sorted(steps):
+        if first not in passed:
+            string = walk_from(steps, first)
+            strings.append(string)
+            for end in string:
+                passed[end] = passed[opposite_end(end)] = True
     return tuple(strings)
 
 

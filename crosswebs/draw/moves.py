@@ -1,7 +1,7 @@
 """Moves: ways from a drawing to a drawing of the same strings, drawn otherwise."""
 
 from crosswebs.base.words import is_count
-from crosswebs.draw.drawings import (MAX_CROSSINGS, MAX_RINGS, STRAIGHT, Drawing, check_drawing, is_end,
+from crosswebs.draw.drawings import (MAX_CROSSINGS, MAX_RINGS, STRAIGHT, check_drawing, flat_drawing, is_end,
                                      numbered_crossings, opposite_end, rejoined)
 from crosswebs.draw.joins import matching
 from crosswebs.errors import InvalidMove
@@ -12,14 +12,22 @@ _LAPS = ((("s1", "t1", "s0", "t2"), ("s1", "t0", "s2", "t1")), (("t2", "s1", "t1
 # The least corner of the new rim, by the same numbers: of the new crossing, and of the former one of both.
 _CURL_CORNERS = (1, 2, 2, 3)
 _LAP_CORNERS = (0, 1)
+# The words of moves that are told by the least corner of a rim, and how many corners the rim has.
+_CORNERS_OF_RIMS = (("slide", 3), ("uncurl", 1), ("unlap", 2))
 
 
 def each_move(drawing):
     """All moves of the drawing, ascending as tuples."""
     check_drawing(drawing)
-    for move in _each_candidate(drawing):
-        if is_move(drawing, move):
-            yield move
+    if len(drawing) < MAX_CROSSINGS:
+        yield from _each_curl(drawing)
+    if len(drawing) + 2 <= MAX_CROSSINGS:
+        yield from _each_lap(drawing)
+    for word, many in _CORNERS_OF_RIMS:
+        judge = _JUDGES[word]
+        for rim in drawing.rims:
+            if len(rim) == many and judge(drawing, (word, rim[0])):
+                yield (word, rim[0])
 
 
 def is_move(drawing, value):
@@ -52,21 +60,40 @@ def back_move(drawing, move):
     return [back for back in backs if matching(moved(behind, back), drawing) is not None][0]
 
 
-def _each_candidate(drawing):
-    """All tuples that could be moves of the drawing, ascending."""
-    ends = [(at, number) for at in range(len(drawing)) for number in range(4)]
-    for end in ends:
-        for way in range(4):
-            yield ("curl", end, way)
-    for way in range(4):
-        yield ("curl ring", way)
-    for one in ends:
-        for other in ends:
-            yield ("lap", one, other, 0)
-            yield ("lap", one, other, 1)
-    for word in ("slide", "uncurl", "unlap"):
-        for corner in ends:
-            yield (word, corner)
+def _each_curl(drawing):
+    """All curls of a drawing with room for a crossing more, and all curls of a free ring, ascending."""
+    for at in range(len(drawing)):
+        for number in range(4):
+            for way in range(len(_CURLS)):
+                yield ("curl", (at, number), way)
+    if drawing.rings > 0:
+        for way in range(len(_CURLS)):
+            yield ("curl ring", way)
+
+
+def _each_lap(drawing):
+    """All laps of a drawing with room for two crossings more, ascending."""
+    met = _ends_met(drawing)
+    for one in sorted(met):
+        own = drawing.strands[_strand_at(drawing, one)]
+        for other in met[one]:
+            if other not in own:
+                for over in range(len(_LAPS)):
+                    yield ("lap", one, other, over)
+
+
+def _ends_met(drawing):
+    """By ends, the ascending ends that have the same rim ahead, or are of other pieces."""
+    met = {}
+    for piece in drawing.pieces:
+        beyond = [(at, number) for at in range(len(drawing)) if at not in piece for number in range(4)]
+        for rim in drawing.rims:
+            if rim[0][0] in piece:
+                leaving = [(at, (number + 1) % 4) for at, number in rim]
+                reached = sorted(leaving + beyond)
+                for end in leaving:
+                    met[end] = reached
+    return met
 
 
 def _check_move(drawing, value):
@@ -179,19 +206,19 @@ def _retold(drawing, strands, crossings):
 def _without(drawing, ats):
     """The drawing without some crossings, whose strings go straight on."""
     crossings, rings = rejoined(drawing.crossings, {at: STRAIGHT for at in ats})
-    return Drawing(crossings, rings=drawing.rings + rings)
+    return flat_drawing(crossings, drawing.rings + rings)
 
 
 def _curl(drawing, end, way):
     """The drawing behind this move."""
     strands = {end: "u", drawing.partner(end): "w"}
-    return Drawing(_retold(drawing, strands, [_CURLS[way]]), rings=drawing.rings)
+    return flat_drawing(_retold(drawing, strands, [_CURLS[way]]), drawing.rings)
 
 
 def _curl_ring(drawing, way):
     """The drawing behind this move."""
     crossing = [strand.replace("w", "u") for strand in _CURLS[way]]
-    return Drawing(_retold(drawing, {}, [crossing]), rings=drawing.rings - 1)
+    return flat_drawing(_retold(drawing, {}, [crossing]), drawing.rings - 1)
 
 
 def _uncurl(drawing, corner):
@@ -202,7 +229,7 @@ def _uncurl(drawing, corner):
 def _lap(drawing, one, other, over):
     """The drawing behind this move."""
     strands = {one: "s0", drawing.partner(one): "s2", other: "t0", drawing.partner(other): "t2"}
-    return Drawing(_retold(drawing, strands, _LAPS[over]), rings=drawing.rings)
+    return flat_drawing(_retold(drawing, strands, _LAPS[over]), drawing.rings)
 
 
 def _unlap(drawing, corner):
@@ -218,7 +245,7 @@ def _slide(drawing, corner):
         strands[other] = _strand_at(drawing, beyond_one)
         strands[one] = _strand_at(drawing, beyond_other)
         strands[beyond_one] = strands[beyond_other] = _strand_at(drawing, one)
-    return Drawing(_retold(drawing, strands, []), rings=drawing.rings)
+    return flat_drawing(_retold(drawing, strands, []), drawing.rings)
 
 
 def _end_behind(end, gone):
